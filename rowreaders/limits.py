@@ -1,0 +1,15 @@
+"""The limits that the document names, each under the name it has there."""
+
+MOST_SIGNS = 8
+MOST_STANDS = 200
+MOST_GUESSED = 12
+MOST_ROW = 200
+MOST_LISTED = 1000
+MOST_WORD = 4
+MOST_DEEDS = 500
+MOST_LOOKS = 2000
+MOST_SIZE = 6
+MOST_WEIGHED = 36
+MOST_LED = 12
+MOST_PARTED = 8
+MOST_CHANGES = 60

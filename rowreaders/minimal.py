@@ -1,0 +1,164 @@
+"""As few stands as can be: stands that are alike are put together, and numbered by first rows.
+
+All of this works on plain lists: arrows, for each stand a list or tuple of goals, and ends, some stands.
+"""
+
+from rowreaders.errors import TooMany
+
+
+class Lots:
+    """All stands, fallen apart in lots that can be split; each lot lies side by side in one list."""
+
+    def __init__(self, size):
+        self.order = list(range(size))
+        self.place = list(range(size))
+        self.lot_of = [0] * size
+        self.first = [0]
+        self.stop = [size]
+        self.marked = [0]
+        self.touched = []
+
+    def members(self, lot):
+        """The stands of a lot."""
+        return self.order[self.first[lot]:self.stop[lot]]
+
+    def mark(self, stand):
+        """Mark a stand for the next parting; the marked ones lie ahead of the others of their lot."""
+        lot = self.lot_of[stand]
+        goal = self.first[lot] + self.marked[lot]
+        at = self.place[stand]
+        if at < goal:
+            return
+        if not self.marked[lot]:
+            self.touched.append(lot)
+        self.marked[lot] += 1
+        other = self.order[goal]
+        self.order[goal] = stand
+        self.order[at] = other
+        self.place[stand] = goal
+        self.place[other] = at
+
+    def part(self):
+        """Part marked stands from the others; the new lots are told, of both parts the smaller one."""
+        made = []
+        for lot in self.touched:
+            first, stop = self.first[lot], self.stop[lot]
+            middle = first + self.marked[lot]
+            self.marked[lot] = 0
+            if middle < stop:
+                made.append(len(self.first))
+                self.cut(lot, first, middle, stop)
+        self.touched = []
+        return made
+
+    def cut(self, lot, first, middle, stop):
+        """Make a new lot of the smaller part of this one."""
+        if middle - first <= stop - middle:
+            self.first[lot] = middle
+            stop = middle
+        else:
+            self.stop[lot] = middle
+            first = middle
+        for stand in self.order[first:stop]:
+            self.lot_of[stand] = len(self.first)
+        self.first.append(first)
+        self.stop.append(stop)
+        self.marked.append(0)
+
+
+def reached(links, begins):
+    """For each stand whether it can be come to from the begins; links has for each one those next to it."""
+    met = [False] * len(links)
+    for stand in begins:
+        met[stand] = True
+    waiting = list(begins)
+    while waiting:
+        stand = waiting.pop()
+        for goal in links[stand]:
+            if not met[goal]:
+                met[goal] = True
+                waiting.append(goal)
+    return met
+
+
+def useful_stands(arrows, ends):
+    """The useful stands, ascending."""
+    onward = [[goal for goal in goals if goal is not None] for goals in arrows]
+    backward = [[] for _ in arrows]
+    for stand in range(len(arrows)):
+        for goal in onward[stand]:
+            backward[goal].append(stand)
+    fore = reached(onward, [0])
+    back = reached(backward, ends)
+    return [stand for stand in range(len(arrows)) if fore[stand] and back[stand]]
+
+
+def kept(arrows, ends, stands):
+    """The arrows and ends of some stands alone, numbered anew; arrows to others lead nowhere."""
+    number = [None] * len(arrows)
+    for at in range(len(stands)):
+        number[stands[at]] = at
+    rest = [[None if goal is None else number[goal] for goal in arrows[stand]] for stand in stands]
+    return rest, [number[stand] for stand in ends if number[stand] is not None]
+
+
+def lots_of(signs, arrows, ends, limit):
+    """For each stand the number of its lot of stands that are alike; all stands must be useful."""
+    origins = [[] for _ in arrows]
+    for stand in range(len(arrows)):
+        for sign in range(signs):
+            if arrows[stand][sign] is not None:
+                origins[arrows[stand][sign]].append((sign, stand))
+    lots = Lots(len(arrows))
+    for stand in ends:
+        lots.mark(stand)
+    waiting = [0] + lots.part()
+    while waiting:
+        begins = [[] for _ in range(signs)]
+        lot = waiting.pop()
+        for goal in lots.members(lot):
+            for sign, stand in origins[goal]:
+                begins[sign].append(stand)
+        for stands in begins:
+            for stand in stands:
+                lots.mark(stand)
+            waiting += lots.part()
+            # Each lot is a stand of the least reader, so nothing behind this can mend it.
+            if len(lots.first) > limit:
+                raise TooMany(limit)
+    return lots.lot_of
+
+
+def numbered(signs, arrows, ends, lot_of):
+    """The reader whose stands are the lots, numbered by first rows."""
+    number = {lot_of[0]: 0}
+    stands = [0]
+    made = []
+    while len(made) < len(stands):
+        goals = []
+        stand = stands[len(made)]
+        for goal in arrows[stand]:
+            if goal is None:
+                goals.append(None)
+                continue
+            if lot_of[goal] not in number:
+                number[lot_of[goal]] = len(stands)
+                stands.append(goal)
+            goals.append(number[lot_of[goal]])
+        made.append(tuple(goals))
+    found = sorted([number[lot] for lot in sorted({lot_of[stand] for stand in ends})])
+    return tuple(made), tuple(found)
+
+
+def nothing(signs):
+    """The arrows and ends of the least reader without yes rows."""
+    return ((None,) * signs,), ()
+
+
+def least_parts(signs, arrows, ends, limit):
+    """The arrows and ends of the least reader; TooMany(limit) if it has more stands than that."""
+    stands = useful_stands(arrows, ends)
+    if not stands:
+        return nothing(signs)
+    arrows, ends = kept(arrows, ends, stands)
+    return numbered(signs, arrows, ends, lots_of(signs, arrows, ends, limit))
