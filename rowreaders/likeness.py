@@ -1,0 +1,89 @@
+"""Whether readers say the same, the rows that tell it if they do not, and least readers."""
+
+from rowreaders.checks import ALPHABET
+from rowreaders.readers import check_pair, check_reader, check_stand, end_flags, least_of
+
+
+def goal_of(reader, stand, sign):
+    """Where the arrow leads; from nowhere all lead nowhere."""
+    return None if stand is None else reader.arrows[stand][sign]
+
+
+def first_with(reader, other, begin, wanted):
+    """The first row from a pair of stands to one that is wanted, as told of both being ends; or None."""
+    signs = range(reader.signs)
+    here, there = end_flags(reader), end_flags(other)
+    pairs = [begin]
+    origin = {begin: None}
+    at = 0
+    while at < len(pairs):
+        pair = pairs[at]
+        ends = (pair[0] is not None and here[pair[0]], pair[1] is not None and there[pair[1]])
+        if ends in wanted:
+            return row_back(origin, pair)
+        for sign in signs:
+            goal = (goal_of(reader, pair[0], sign), goal_of(other, pair[1], sign))
+            if goal not in origin:
+                origin[goal] = (pair, sign)
+                pairs.append(goal)
+        at += 1
+    return None
+
+
+def row_back(origin, pair):
+    """The row along which a pair was found, read from behind."""
+    signs = []
+    while origin[pair] is not None:
+        pair, sign = origin[pair]
+        signs.append(ALPHABET[sign])
+    return "".join(signs[::-1])
+
+
+def same_rows(reader, other):
+    """Whether both say the same."""
+    check_pair(reader, other)
+    return first_apart(reader, other) is None
+
+
+def first_apart(reader, other):
+    """The first row that is a yes row of one of them alone, or None."""
+    check_pair(reader, other)
+    return first_with(reader, other, (0, 0), ((True, False), (False, True)))
+
+
+def is_within(inner, outer):
+    """Whether each yes row of the one is one of the other."""
+    check_pair(inner, outer)
+    return first_outside(inner, outer) is None
+
+
+def first_outside(inner, outer):
+    """The first yes row of the one that is none of the other, or None."""
+    check_pair(inner, outer)
+    return first_with(inner, outer, (0, 0), ((True, False),))
+
+
+def least(reader):
+    """The least reader."""
+    check_reader(reader)
+    return least_of(reader.signs, reader.arrows, reader.ends)
+
+
+def first_rows(reader):
+    """The first rows of the stands of the least reader."""
+    made = least(reader)
+    rows = {0: ""}
+    for stand in range(len(made)):
+        for sign in range(made.signs):
+            goal = made.arrows[stand][sign]
+            if goal is not None and goal not in rows:
+                rows[goal] = rows[stand] + ALPHABET[sign]
+    return tuple([rows[stand] for stand in range(len(made))])
+
+
+def parting(reader, one, other):
+    """The first row that parts two stands of the reader as it is, or None."""
+    check_reader(reader)
+    check_stand(reader, one)
+    check_stand(reader, other)
+    return first_with(reader, reader, (one, other), ((True, False), (False, True)))
