@@ -6,7 +6,7 @@ one's turn, and for each stand when it is the second one's.
 
 from rowreaders.checks import ALPHABET, check_length, is_lot
 from rowreaders.errors import InvalidPlan, InvalidSigns
-from rowreaders.minimal import reached
+from rowreaders.minimal import links_back, links_of, reached
 from rowreaders.readers import check_reader, end_flags
 
 
@@ -68,7 +68,7 @@ def signs_left(reader, mine, others, choose):
             here[stand] = count
         for stand in new_there:
             there[stand] = count
-        found = new_here or new_there
+        found = len(new_here) + len(new_there) > 0
     return here, there
 
 
@@ -99,7 +99,7 @@ def can_keep(reader, first, second):
     """Whether the first one can bring it about that the row is always a front of some yes row."""
     check_duel(reader, first, second)
     mine, others = goals_by(reader, first), goals_by(reader, second)
-    here = leading_on(reader)
+    here = reached(links_back(links_of(reader.arrows)), reader.ends)
     there = list(here)
     kept = 2 * len(reader) + 1
     while sum(here) + sum(there) < kept:
@@ -108,16 +108,6 @@ def can_keep(reader, first, second):
         there = [there[at] and has_all(here, others[at]) for at in range(len(there))]
         here = new_here
     return here[0]
-
-
-def leading_on(reader):
-    """For each stand whether some row leads from it to an end."""
-    origins = [[] for _ in range(len(reader))]
-    for stand in range(len(reader)):
-        for goal in reader.arrows[stand]:
-            if goal is not None:
-                origins[goal].append(stand)
-    return reached(origins, reader.ends)
 
 
 def plan(reader, first, second):

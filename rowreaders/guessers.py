@@ -4,7 +4,7 @@ from rowreaders.checks import ALPHABET, check_row, check_signs, is_ascending, is
 from rowreaders.crowds import spread, stands_of
 from rowreaders.errors import InvalidEnds, InvalidNumber, InvalidSteps, NotAGuesser, TooMany
 from rowreaders.limits import MOST_GUESSED
-from rowreaders.nets import least_of_net
+from rowreaders.guessing import least_of_net
 from rowreaders.readers import check_reader
 from rowreaders.strides import first_row_twice, growing_rows
 from rowreaders.ways import Links, all_stands, number_of_ways

@@ -11,7 +11,6 @@ def goal_of(reader, stand, sign):
 
 def first_with(reader, other, begin, wanted):
     """The first row from a pair of stands to one that is wanted, as told of both being ends; or None."""
-    signs = range(reader.signs)
     here, there = end_flags(reader), end_flags(other)
     pairs = [begin]
     origin = {begin: None}
@@ -21,7 +20,7 @@ def first_with(reader, other, begin, wanted):
         ends = (pair[0] is not None and here[pair[0]], pair[1] is not None and there[pair[1]])
         if ends in wanted:
             return row_back(origin, pair)
-        for sign in signs:
+        for sign in range(reader.signs):
             goal = (goal_of(reader, pair[0], sign), goal_of(other, pair[1], sign))
             if goal not in origin:
                 origin[goal] = (pair, sign)

@@ -3,17 +3,17 @@
 from rowreaders.checks import ALPHABET, check_length, check_number, check_row
 from rowreaders.errors import TooMany
 from rowreaders.limits import MOST_LISTED, MOST_ROW
-from rowreaders.minimal import kept, useful_stands
+from rowreaders.minimal import kept, links_back, links_of, useful_stands
 from rowreaders.readers import check_reader, end_flags, led_from
 
 
 def counts_up_to(reader, length):
     """For each length up to this one the list that has, for each stand, how many such rows lead to an end."""
-    arrows = [[goal for goal in goals if goal is not None] for goals in reader.arrows]
+    links = links_of(reader.arrows)
     counts = [[1 if end else 0 for end in end_flags(reader)]]
     for _ in range(length):
         last = counts[-1]
-        counts.append([sum([last[goal] for goal in goals]) for goals in arrows])
+        counts.append([sum([last[goal] for goal in goals]) for goals in links])
     return counts
 
 
@@ -93,26 +93,23 @@ def number_of(reader, row):
 
 def lengths_left(reader):
     """For each useful stand, as numbered among them, the longest row to an end; None if some are endless."""
-    arrows, ends = kept(reader.arrows, reader.ends, useful_stands(reader.arrows, reader.ends))
-    onward = [[goal for goal in goals if goal is not None] for goals in arrows]
-    origins = [[] for _ in arrows]
-    for stand in range(len(arrows)):
-        for goal in onward[stand]:
-            origins[goal].append(stand)
+    arrows, _ = kept(reader.arrows, reader.ends, useful_stands(reader.arrows, reader.ends))
+    links = links_of(arrows)
+    back = links_back(links)
     # Stands are done when all arrows from them lead to done ones, so stands on a way round never are.
-    unfinished = [len(goals) for goals in onward]
-    done = [stand for stand in range(len(arrows)) if not onward[stand]]
-    left = [0] * len(arrows)
+    unfinished = [len(goals) for goals in links]
+    done = [stand for stand in range(len(links)) if not links[stand]]
+    left = [0] * len(links)
     at = 0
     while at < len(done):
         goal = done[at]
-        for stand in origins[goal]:
+        for stand in back[goal]:
             left[stand] = max(left[stand], left[goal] + 1)
             unfinished[stand] -= 1
             if not unfinished[stand]:
                 done.append(stand)
         at += 1
-    return left if len(done) == len(arrows) else None
+    return left if len(done) == len(links) else None
 
 
 def is_endless(reader):

@@ -4,7 +4,7 @@ from rowreaders.checks import ALPHABET, check_row, is_lot
 from rowreaders.errors import InvalidSigns
 from rowreaders.likeness import goal_of, least
 from rowreaders.minimal import reached
-from rowreaders.nets import least_of_net
+from rowreaders.guessing import least_of_net
 from rowreaders.readers import check_pair, check_reader, end_flags, led_from, least_of, no_rows, useful
 
 
@@ -86,8 +86,8 @@ def again(reader):
     arrows = []
     for pairs in arrows_of(reader):
         # One stand more, a begin that is a goal; whoever comes to an end stands there, too.
-        pairs = pairs + [(size, goal) for stand, goal in pairs if stand == 0]
-        arrows.append(pairs + [(stand, size) for stand, goal in pairs if flags[goal]])
+        all_pairs = pairs + [(size, goal) for stand, goal in pairs if stand == 0]
+        arrows.append(all_pairs + [(stand, size) for stand, goal in all_pairs if flags[goal]])
     return least_of_net(reader.signs, size + 1, arrows, [size], [size])
 
 

@@ -81,15 +81,25 @@ def reached(links, begins):
     return met
 
 
+def links_of(arrows):
+    """For each stand the stands to which its arrows lead."""
+    return [[goal for goal in goals if goal is not None] for goals in arrows]
+
+
+def links_back(links):
+    """For each stand those that are linked with it, as often as they are."""
+    back = [[] for _ in links]
+    for stand in range(len(links)):
+        for goal in links[stand]:
+            back[goal].append(stand)
+    return back
+
+
 def useful_stands(arrows, ends):
     """The useful stands, ascending."""
-    onward = [[goal for goal in goals if goal is not None] for goals in arrows]
-    backward = [[] for _ in arrows]
-    for stand in range(len(arrows)):
-        for goal in onward[stand]:
-            backward[goal].append(stand)
-    fore = reached(onward, [0])
-    back = reached(backward, ends)
+    links = links_of(arrows)
+    fore = reached(links, [0])
+    back = reached(links_back(links), ends)
     return [stand for stand in range(len(arrows)) if fore[stand] and back[stand]]
 
 
