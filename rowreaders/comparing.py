@@ -1,4 +1,4 @@
-"""Whether the arrows of a reader that is guessed have just the rows of a net, or else a row that shows it.
+"""Whether the arrows of a reader that is guessed have just the rows of a net, or else rows that show it.
 
 made has the arrows of the guessed reader, and crowds the crowd of the net that stands for each of its stands;
 it is an end if a goal is in this crowd. Rows are told as lists of the numbers of their signs.
@@ -11,16 +11,21 @@ from rowreaders.nets import moved
 
 # To compare a crowd with more of those that have been is dearer than to go on from it.
 MOST_COMPARED = 200
+# To find some rows at once spares comparing again for each.
+MOST_ROWS = 20
 
 
-def row_apart(net, crowds, made):
-    """A row of which the net and the arrows say otherwise, or None."""
-    row = row_of_net_alone(net, crowds, made)
-    return row_of_arrows_alone(net, crowds, made) if row is None else row
+def rows_apart(net, crowds, made):
+    """Some rows of which the net and the arrows say otherwise; none only if there is none at all."""
+    rows = rows_of_net_alone(net, crowds, made)
+    if not rows:
+        row = row_of_arrows_alone(net, crowds, made)
+        rows = [] if row is None else [row]
+    return rows
 
 
-def row_of_net_alone(net, crowds, made):
-    """A row that leads to a goal in the net alone, or None.
+def rows_of_net_alone(net, crowds, made):
+    """Some rows that lead to a goal in the net alone; none only if there is none at all.
 
     Of each stand that the arrows come to it is enough to go on once from each stand of the net beside it.
     """
@@ -30,11 +35,12 @@ def row_of_net_alone(net, crowds, made):
     met = [0] * (nowhere + 1)
     met[0] = net.begin_crowd
     events = [(0, net.begin_crowd, None, None)]
+    rows = []
     at = 0
-    while at < len(events):
+    while at < len(events) and len(rows) < MOST_ROWS:
         stand, crowd, _, _ = events[at]
         if crowd & net.goal_crowd and (stand == nowhere or not crowds[stand] & net.goal_crowd):
-            return row_back(events, at)[::-1]
+            rows.append(row_back(events, at)[::-1])
         for sign in range(len(net.onward)):
             leads = arrows[stand][sign]
             fresh = moved(crowd, net.onward[sign]) & ~met[leads]
@@ -42,7 +48,7 @@ def row_of_net_alone(net, crowds, made):
                 met[leads] |= fresh
                 events.append((leads, fresh, at, sign))
         at += 1
-    return None
+    return rows
 
 
 def row_of_arrows_alone(net, crowds, made):

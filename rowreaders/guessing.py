@@ -3,10 +3,10 @@
 To go through all crowds of a net could take for ever, also where the least reader is small, or has too many
 stands anyway. So crowds count as alike until a test parts them: the crowd of all stands from which some row
 leads to a goal. What comes out is a guess, which surely has not more stands than the least reader. It is
-compared with the net; a row of which the two say otherwise brings more tests, until there is no such row.
+compared with the net; rows of which the two say otherwise bring more tests, until there is no such row.
 """
 
-from rowreaders.comparing import row_apart
+from rowreaders.comparing import rows_apart
 from rowreaders.errors import TooMany
 from rowreaders.limits import MOST_STANDS
 from rowreaders.minimal import nothing
@@ -16,7 +16,7 @@ from rowreaders.readers import Reader
 # More tests ahead of the first comparing take time, fewer ones are made good for by more comparing.
 FIRST_TESTS = 400
 FIRST_TESTS_IF_GREAT = 60
-GREAT = 2000
+GREAT = 10000
 
 
 def least_of_net(signs, size, arrows, begins, goals):
@@ -28,10 +28,11 @@ def least_of_net(signs, size, arrows, begins, goals):
     tests, complete = first_tests(net, size)
     crowds, made = guessed(net, tests)
     while not complete:
-        row = row_apart(net, crowds, made)
-        if row is None:
+        rows = rows_apart(net, crowds, made)
+        if not rows:
             break
-        tests = with_tests_of(net, crowds, made, tests, row)
+        for row in rows:
+            tests = with_tests_of(net, crowds, made, tests, row)
         crowds, made = guessed(net, tests)
     ends = tuple([at for at in range(len(crowds)) if crowds[at] & net.goal_crowd])
     return Reader(signs, tuple(made), ends)
