@@ -56,6 +56,11 @@ def is_lot(value, signs):
     return is_row(value, signs, signs) and is_ascending(value)
 
 
+def row_order(row):
+    """What sorts rows into the order of rows."""
+    return len(row), row
+
+
 def check_signs(signs):
     """Let only a number of signs pass."""
     if not is_between(signs, 1, MOST_SIGNS):

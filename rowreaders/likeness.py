@@ -1,6 +1,7 @@
 """Whether readers say the same, the rows that tell it if they do not, and least readers."""
 
 from rowreaders.checks import ALPHABET
+from rowreaders.minimal import full_parts
 from rowreaders.readers import check_pair, check_reader, check_stand, end_flags, least_of
 
 
@@ -30,7 +31,7 @@ def first_with(reader, other, begin, wanted):
 
 
 def row_back(origin, pair):
-    """The row along which a pair was found, read from behind."""
+    """The row along which a pair was found; origin has for each pair the one it came from, and the sign."""
     signs = []
     while origin[pair] is not None:
         pair, sign = origin[pair]
@@ -66,6 +67,12 @@ def least(reader):
     """The least reader."""
     check_reader(reader)
     return least_of(reader.signs, reader.arrows, reader.ends)
+
+
+def full_least(reader):
+    """The arrows and ends of the least full reader that says the same; it may have one stand too many."""
+    made = least(reader)
+    return full_parts(made.signs, made.arrows, made.ends)
 
 
 def first_rows(reader):

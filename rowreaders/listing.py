@@ -3,7 +3,7 @@
 from rowreaders.checks import ALPHABET, check_length, check_number, check_row
 from rowreaders.errors import TooMany
 from rowreaders.limits import MOST_LISTED, MOST_ROW
-from rowreaders.minimal import kept, links_back, links_of, useful_stands
+from rowreaders.minimal import kept, links_of, longest_ways, useful_stands
 from rowreaders.readers import check_reader, end_flags, led_from
 
 
@@ -94,22 +94,7 @@ def number_of(reader, row):
 def lengths_left(reader):
     """For each useful stand, as numbered among them, the longest row to an end; None if some are endless."""
     arrows, _ = kept(reader.arrows, reader.ends, useful_stands(reader.arrows, reader.ends))
-    links = links_of(arrows)
-    back = links_back(links)
-    # Stands are done when all arrows from them lead to done ones, so stands on a way round never are.
-    unfinished = [len(goals) for goals in links]
-    done = [stand for stand in range(len(links)) if not links[stand]]
-    left = [0] * len(links)
-    at = 0
-    while at < len(done):
-        goal = done[at]
-        for stand in back[goal]:
-            left[stand] = max(left[stand], left[goal] + 1)
-            unfinished[stand] -= 1
-            if not unfinished[stand]:
-                done.append(stand)
-        at += 1
-    return left if len(done) == len(links) else None
+    return longest_ways(links_of(arrows))
 
 
 def is_endless(reader):

@@ -3,7 +3,7 @@
 from rowreaders.checks import ALPHABET, check_row, is_lot
 from rowreaders.errors import InvalidSigns
 from rowreaders.likeness import goal_of, least
-from rowreaders.minimal import reached
+from rowreaders.minimal import stands_met
 from rowreaders.guessing import least_of_net
 from rowreaders.readers import check_pair, check_reader, end_flags, led_from, least_of, no_rows, useful
 
@@ -147,12 +147,6 @@ def with_leaps(reader, kept, leapt):
             if goal is not None:
                 arrows[sign] += [(stand, other) for other in far[goal]]
     return least_of_net(reader.signs, len(reader), arrows, far[0], reader.ends)
-
-
-def stands_met(links, begin):
-    """The stands that can be come to from a stand, itself among them."""
-    met = reached(links, [begin])
-    return [stand for stand in range(len(met)) if met[stand]]
 
 
 def rests_behind(reader, row):

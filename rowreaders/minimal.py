@@ -81,6 +81,12 @@ def reached(links, begins):
     return met
 
 
+def stands_met(links, begin):
+    """The stands that can be come to from a stand, itself among them."""
+    met = reached(links, [begin])
+    return [stand for stand in range(len(met)) if met[stand]]
+
+
 def links_of(arrows):
     """For each stand the stands to which its arrows lead."""
     return [[goal for goal in goals if goal is not None] for goals in arrows]
@@ -112,17 +118,41 @@ def kept(arrows, ends, stands):
     return rest, [number[stand] for stand in ends if number[stand] is not None]
 
 
-def lots_of(signs, arrows, ends, limit):
-    """For each stand the number of its lot of stands that are alike; all stands must be useful."""
+def longest_ways(links):
+    """For each stand how many links the longest way from it has; None if some way goes round."""
+    back = links_back(links)
+    # Stands are done when all links from them lead to done ones, so stands on a way round never are.
+    unfinished = [len(goals) for goals in links]
+    done = [stand for stand in range(len(links)) if not links[stand]]
+    left = [0] * len(links)
+    at = 0
+    while at < len(done):
+        goal = done[at]
+        for stand in back[goal]:
+            left[stand] = max(left[stand], left[goal] + 1)
+            unfinished[stand] -= 1
+            if not unfinished[stand]:
+                done.append(stand)
+        at += 1
+    return left if len(done) == len(links) else None
+
+
+def lots_of(signs, arrows, kinds, limit):
+    """For each stand the number of its lot of stands that are alike; all stands must be useful.
+
+    kinds are lists of stands that are unlike all stands out of their list from the beginning.
+    """
     origins = [[] for _ in arrows]
     for stand in range(len(arrows)):
         for sign in range(signs):
             if arrows[stand][sign] is not None:
                 origins[arrows[stand][sign]].append((sign, stand))
     lots = Lots(len(arrows))
-    for stand in ends:
-        lots.mark(stand)
-    waiting = [0] + lots.part()
+    waiting = [0]
+    for stands in kinds:
+        for stand in stands:
+            lots.mark(stand)
+        waiting += lots.part()
     while waiting:
         begins = [[] for _ in range(signs)]
         lot = waiting.pop()
@@ -139,25 +169,37 @@ def lots_of(signs, arrows, ends, limit):
     return lots.lot_of
 
 
-def numbered(signs, arrows, ends, lot_of):
-    """The reader whose stands are the lots, numbered by first rows."""
+def by_first_rows(arrows, lot_of):
+    """A stand of each lot, and the number of each stand's lot, both by first rows; lots are numbered anew."""
     number = {lot_of[0]: 0}
     stands = [0]
-    made = []
-    while len(made) < len(stands):
-        goals = []
-        stand = stands[len(made)]
-        for goal in arrows[stand]:
-            if goal is None:
-                goals.append(None)
-                continue
-            if lot_of[goal] not in number:
+    at = 0
+    while at < len(stands):
+        for goal in arrows[stands[at]]:
+            if goal is not None and lot_of[goal] not in number:
                 number[lot_of[goal]] = len(stands)
                 stands.append(goal)
-            goals.append(number[lot_of[goal]])
-        made.append(tuple(goals))
-    found = sorted([number[lot] for lot in sorted({lot_of[stand] for stand in ends})])
-    return tuple(made), tuple(found)
+        at += 1
+    return stands, [number[lot] for lot in lot_of]
+
+
+def with_numbers(goals, number):
+    """The goals of some arrows by their new numbers."""
+    return tuple([None if goal is None else number[goal] for goal in goals])
+
+
+def full_parts(signs, arrows, ends):
+    """The least arrows and ends made full: if need be, with one stand more to which all others lead.
+
+    No full ones with these yes rows have fewer stands, so all stands say unlike things.
+    """
+    if not ends:
+        return [(0,) * signs], ()
+    nowhere = len(arrows)
+    made = [tuple([nowhere if goal is None else goal for goal in goals]) for goals in arrows]
+    if any([None in goals for goals in arrows]):
+        made.append((nowhere,) * signs)
+    return made, ends
 
 
 def nothing(signs):
@@ -171,4 +213,6 @@ def least_parts(signs, arrows, ends, limit):
     if not stands:
         return nothing(signs)
     arrows, ends = kept(arrows, ends, stands)
-    return numbered(signs, arrows, ends, lots_of(signs, arrows, ends, limit))
+    stands, number = by_first_rows(arrows, lots_of(signs, arrows, [ends], limit))
+    made = [with_numbers(arrows[stand], number) for stand in stands]
+    return tuple(made), tuple(sorted({number[end] for end in ends}))

@@ -4,6 +4,7 @@ import itertools
 import random
 import unittest
 
+from rowreaders.guessers import Guesser
 from rowreaders.readers import Reader
 
 LETTERS = "abcdefgh"
@@ -103,6 +104,21 @@ def some_readers(seed, many, signs, most):
             for _ in range(many)]
 
 
+def some_guesser(chance):
+    """A guesser made by chance, with rather few steps, often without any that has no sign."""
+    signs, size = chance.choice([1, 1, 2, 2, 3]), chance.randint(1, 4)
+    thick, empty = chance.choice([0.05, 0.1, 0.2, 0.4]), chance.choice([0, 0, 0.05, 0.2])
+    steps = tuple((stand, sign, goal) for stand in range(size) for sign in ("", *LETTERS[:signs])
+                  for goal in range(size) if chance.random() < (thick if sign else empty))
+    begins = tuple(stand for stand in range(size) if chance.random() < 0.5)
+    return Guesser(signs, size, begins, steps, tuple(stand for stand in range(size) if chance.random() < 0.5))
+
+
+def some_guessers(seed, many):
+    chance = random.Random(seed)
+    return [some_guesser(chance) for _ in range(many)]
+
+
 def can_end(reader, stand):
     """Whether some row leads from the stand to an end."""
     return any(is_met in reader.ends for is_met in met_from(reader, stand))
@@ -146,6 +162,14 @@ def least_plainly(reader):
             goals.append(None if kind[goal] == kind[nowhere] else numbers.index(kind[goal]))
         made.append(tuple(goals))
     return tuple(made), tuple(at for at in range(len(stands)) if stands[at] in reader.ends)
+
+
+def with_useless(reader):
+    """The same yes rows, with a stand that nothing leads to, and one from which nothing leads to an end."""
+    many = len(reader)
+    arrows = [tuple(many + 1 if goal is None else goal for goal in goals) for goals in reader.arrows]
+    arrows += [(0,) * reader.signs, (many + 1,) * (reader.signs - 1) + (None,)]
+    return Reader(reader.signs, tuple(arrows), reader.ends + (many,))
 
 
 def cycle(stands, signs=1):

@@ -3,7 +3,7 @@
 import random
 
 from helpers import AB, EVEN, LETTERS, NOT_INTEGERS, NOT_READERS, NOT_ROWS, STRANGE, Case, chain, cycle, every_reader
-from helpers import is_yes, least_plainly, rows_up_to, some_readers
+from helpers import is_yes, least_plainly, rows_up_to, some_guessers, some_readers
 
 from rowreaders import guessers
 from rowreaders.errors import InvalidEnds, InvalidNumber, InvalidRow, InvalidSigns, InvalidSteps
@@ -15,21 +15,6 @@ from rowreaders.readers import Reader, all_rows, no_rows
 
 MARKS = Guesser(2, 2, (0,), ((0, "a", 0), (0, "a", 1), (0, "b", 0), (1, "a", 1), (1, "b", 1)), (1,))
 NOT_GUESSERS = NOT_READERS + [EVEN, AB, (2, 1, (0,), (), (0,))]
-
-
-def some_guesser(chance):
-    """A guesser made by chance, with rather few steps, often without any that has no sign."""
-    signs, size = chance.choice([1, 1, 2, 2, 3]), chance.randint(1, 4)
-    thick, empty = chance.choice([0.05, 0.1, 0.2, 0.4]), chance.choice([0, 0, 0.05, 0.2])
-    steps = tuple((stand, sign, goal) for stand in range(size) for sign in ("", *LETTERS[:signs])
-                  for goal in range(size) if chance.random() < (thick if sign else empty))
-    begins = tuple(stand for stand in range(size) if chance.random() < 0.5)
-    return Guesser(signs, size, begins, steps, tuple(stand for stand in range(size) if chance.random() < 0.5))
-
-
-def some_guessers(seed, many):
-    chance = random.Random(seed)
-    return [some_guesser(chance) for _ in range(many)]
 
 
 def ways_with(guesser, row, most):

@@ -3,7 +3,7 @@
 import random
 
 from helpers import AB, EVEN, NOT_INTEGERS, NOT_READERS, Case, chain, cycle, every_reader, goes, is_yes
-from helpers import least_plainly, row_order, rows_up_to, some_reader, some_readers, yes_rows
+from helpers import least_plainly, row_order, rows_up_to, some_reader, some_readers, with_useless, yes_rows
 
 from rowreaders import likeness
 from rowreaders.errors import InvalidStand, NotAReader, UnlikeSigns
@@ -23,14 +23,6 @@ def with_other_numbers(reader, chance):
     for stand in range(len(reader)):
         arrows[place[stand]] = tuple(None if goal is None else place[goal] for goal in reader.arrows[stand])
     return Reader(reader.signs, tuple(arrows), tuple(sorted(place[end] for end in reader.ends)))
-
-
-def with_useless(reader):
-    """The same yes rows, with a stand that nothing leads to, and one from which nothing leads to an end."""
-    many = len(reader)
-    arrows = [tuple(many + 1 if goal is None else goal for goal in goals) for goals in reader.arrows]
-    arrows += [(0,) * reader.signs, (many + 1,) * (reader.signs - 1) + (None,)]
-    return Reader(reader.signs, tuple(arrows), reader.ends + (many,))
 
 
 class CompareTest(Case):
