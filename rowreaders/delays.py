@@ -4,7 +4,7 @@ A delay is a pair (side, text): what is written by the one (side 0) or by the ot
 this text where the other has come to its end; it is None once they write unlike things.
 """
 
-from rowreaders.likeness import row_back
+from rowreaders.seeking import row_back
 
 
 def delay_of(one, other):

@@ -21,21 +21,25 @@ GREAT = 10000
 
 def least_of_net(signs, size, arrows, begins, goals):
     """The least reader of all rows that lead from a begin to a goal; arrows has for each sign pairs of stands."""
-    net = trimmed(size, arrows, begins, goals)
+    made, ends = net_parts(signs, trimmed(size, arrows, begins, goals), size, MOST_STANDS)
+    return Reader(signs, made, ends)
+
+
+def net_parts(signs, net, size, most):
+    """The arrows and ends of the least reader of a net; TooMany(200) if it has more stands than most."""
     if not net.begin_crowd:
-        made, ends = nothing(signs)
-        return Reader(signs, made, ends)
+        return nothing(signs)
     tests, complete = first_tests(net, size)
-    crowds, made = guessed(net, tests)
+    crowds, made = guessed(net, tests, most)
     while not complete:
         rows = rows_apart(net, crowds, made)
         if not rows:
             break
-        for row in rows:
+        tests = with_all_tests_of(net, tests, rows[0])
+        for row in rows[1:]:
             tests = with_tests_of(net, crowds, made, tests, row)
-        crowds, made = guessed(net, tests)
-    ends = tuple([at for at in range(len(crowds)) if crowds[at] & net.goal_crowd])
-    return Reader(signs, tuple(made), ends)
+        crowds, made = guessed(net, tests, most)
+    return tuple(made), tuple([at for at in range(len(crowds)) if crowds[at] & net.goal_crowd])
 
 
 def first_tests(net, size):
@@ -54,14 +58,26 @@ def first_tests(net, size):
     return tests, at == len(tests)
 
 
+def rests_of(net, row):
+    """The tests of the rests of a row, the shortest one first."""
+    rests = [net.goal_crowd]
+    for sign in row[::-1]:
+        rests.append(moved(rests[-1], net.backward[sign]))
+    return rests
+
+
+def with_all_tests_of(net, tests, row):
+    """The tests, and those of all rests of a row: a long row then parts as many crowds as it goes along."""
+    known = {test: True for test in tests + rests_of(net, row)}
+    return list(known)
+
+
 def with_tests_of(net, crowds, made, tests, row):
     """The tests, and some more, by a row of which the net and the arrows say otherwise.
 
     Along the row, somewhere a crowd was taken for another one that the rest of the row parts from it.
     """
-    rests = [net.goal_crowd]
-    for sign in row[::-1]:
-        rests.append(moved(rests[-1], net.backward[sign]))
+    rests = rests_of(net, row)
     more = list(tests)
     stand = 0
     for at in range(len(row)):
@@ -76,7 +92,7 @@ def with_tests_of(net, crowds, made, tests, row):
     return more
 
 
-def guessed(net, tests):
+def guessed(net, tests, most):
     """The crowds that the tests part, by first rows, and the arrows between them."""
     crowds = [net.begin_crowd]
     number = {told_by(tests, net.begin_crowd): 0}
@@ -91,7 +107,7 @@ def guessed(net, tests):
                 crowds.append(goal)
             goals.append(number[told] if goal else None)
         # Crowds that a test parts are different stands of the least reader, too.
-        if len(crowds) > MOST_STANDS:
+        if len(crowds) > most:
             raise TooMany(MOST_STANDS)
         made.append(tuple(goals))
     return crowds, made

@@ -3,6 +3,7 @@
 from rowreaders.checks import ALPHABET
 from rowreaders.minimal import full_parts
 from rowreaders.readers import check_pair, check_reader, check_stand, end_flags, least_of
+from rowreaders.seeking import first_row_to
 
 
 def goal_of(reader, stand, sign):
@@ -13,30 +14,13 @@ def goal_of(reader, stand, sign):
 def first_with(reader, other, begin, wanted):
     """The first row from a pair of stands to one that is wanted, as told of both being ends; or None."""
     here, there = end_flags(reader), end_flags(other)
-    pairs = [begin]
-    origin = {begin: None}
-    at = 0
-    while at < len(pairs):
-        pair = pairs[at]
-        ends = (pair[0] is not None and here[pair[0]], pair[1] is not None and there[pair[1]])
-        if ends in wanted:
-            return row_back(origin, pair)
-        for sign in range(reader.signs):
-            goal = (goal_of(reader, pair[0], sign), goal_of(other, pair[1], sign))
-            if goal not in origin:
-                origin[goal] = (pair, sign)
-                pairs.append(goal)
-        at += 1
-    return None
 
+    def step(pair, sign):
+        return goal_of(reader, pair[0], sign), goal_of(other, pair[1], sign)
 
-def row_back(origin, pair):
-    """The row along which a pair was found; origin has for each pair the one it came from, and the sign."""
-    signs = []
-    while origin[pair] is not None:
-        pair, sign = origin[pair]
-        signs.append(ALPHABET[sign])
-    return "".join(signs[::-1])
+    def is_wanted(pair):
+        return (pair[0] is not None and here[pair[0]], pair[1] is not None and there[pair[1]]) in wanted
+    return first_row_to(reader.signs, begin, step, is_wanted)
 
 
 def same_rows(reader, other):

@@ -7,8 +7,9 @@ empty row. Two rows with the same mark, of which one alone is a yes row, show th
 from rowreaders.checks import ALPHABET
 from rowreaders.crowds import stands_of
 from rowreaders.errors import TooMany
-from rowreaders.likeness import full_least, row_back
+from rowreaders.likeness import full_least
 from rowreaders.limits import MOST_LOOKS
+from rowreaders.seeking import row_back
 
 
 def table_of(signs, begin, step):

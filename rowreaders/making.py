@@ -3,7 +3,7 @@
 from rowreaders.checks import ALPHABET, check_row, is_lot
 from rowreaders.errors import InvalidSigns
 from rowreaders.likeness import goal_of, least
-from rowreaders.minimal import stands_met
+from rowreaders.minimal import other_parts, stands_met
 from rowreaders.guessing import least_of_net
 from rowreaders.readers import check_pair, check_reader, end_flags, led_from, least_of, no_rows, useful
 
@@ -29,11 +29,8 @@ def one_alone(reader, other):
 def other_rows(reader):
     """All rows of its signs that are no yes rows."""
     check_reader(reader)
-    nowhere = len(reader)
-    arrows = [[nowhere if goal is None else goal for goal in goals] for goals in reader.arrows]
-    arrows.append([nowhere] * reader.signs)
-    flags = end_flags(reader) + [False]
-    return least_of(reader.signs, arrows, [stand for stand in range(len(arrows)) if not flags[stand]])
+    arrows, ends = other_parts(reader.signs, reader.arrows, reader.ends)
+    return least_of(reader.signs, arrows, ends)
 
 
 def paired(reader, other, wanted):

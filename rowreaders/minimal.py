@@ -202,6 +202,17 @@ def full_parts(signs, arrows, ends):
     return made, ends
 
 
+def other_parts(signs, arrows, ends):
+    """Full arrows and ends of all rows but the yes rows of these, with one stand more."""
+    nowhere = len(arrows)
+    made = [[nowhere if goal is None else goal for goal in goals] for goals in arrows]
+    made.append([nowhere] * signs)
+    is_end = [False] * len(made)
+    for end in ends:
+        is_end[end] = True
+    return made, [stand for stand in range(len(made)) if not is_end[stand]]
+
+
 def nothing(signs):
     """The arrows and ends of the least reader without yes rows."""
     return ((None,) * signs,), ()

@@ -116,6 +116,10 @@ class ImageTest(Case):
         self.fails(TooMany, lambda: image(cycle(200), 2, ("ab",)), limit=200)
         self.assertEqual(len(image(chain((49,)), 1, ("aaaa",))), 197)
         self.fails(TooMany, lambda: image(chain((50,)), 1, ("aaaa",)), limit=200)
+        # Long rows alone tell the stands apart.
+        self.fails(TooMany, lambda: image(chain((199,), 2), 2, ("aaaa", "abab")), limit=200)
+        self.fails(TooMany, lambda: image(cycle(200), 1, ("aaaa",)), limit=200)
+        self.assertEqual(len(image(chain((199,), 2), 1, ("a", "a"))), 200)
         # Which of the last ten signs was a b: to be known of all of them at once.
         guess = Reader(3, ((0, 0, 1),) + tuple((at + 1, at + 1, None) for at in range(1, 11)) + ((None,) * 3,), (11,))
         self.fails(TooMany, lambda: image(guess, 2, ("a", "b", "b")), limit=200)
