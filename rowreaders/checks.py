@@ -4,6 +4,7 @@ from rowreaders.errors import InvalidNumber, InvalidRow, InvalidSigns
 from rowreaders.limits import MOST_ROW, MOST_SIGNS, MOST_STANDS
 
 ALPHABET = "abcdefgh"
+FIGURES = "0123456789"
 NUMBERS = 10 ** 40
 
 
@@ -23,6 +24,18 @@ def is_row(value, signs, most):
         return False
     letters = ALPHABET[:signs]
     return all([sign in letters for sign in value])
+
+
+def is_long_row(value, signs):
+    """Whether a value is a row of so many signs, however long it is."""
+    return isinstance(value, str) and is_row(value, signs, len(value))
+
+
+def number_in(text):
+    """The integer that decimal figures without needless zeros tell, or None."""
+    if not text or text[0] == "0" and len(text) > 1:
+        return None
+    return int(text) if all([sign in FIGURES for sign in text]) else None
 
 
 def is_ascending(values):

@@ -11,6 +11,18 @@ def goal_of(reader, stand, sign):
     return None if stand is None else reader.arrows[stand][sign]
 
 
+def goals_of_pair(reader, other, pair):
+    """What the signs lead a pair to, of a stand of each, or nowhere."""
+    one, two = pair
+    return [(goal_of(reader, one, sign), goal_of(other, two, sign)) for sign in range(reader.signs)]
+
+
+def flags_at_pair(here, there, pair):
+    """The flags of a pair of stands, none of which nowhere has."""
+    one, two = pair
+    return one is not None and here[one], two is not None and there[two]
+
+
 def first_with(reader, other, begin, wanted):
     """The first row from a pair of stands to one that is wanted, as told of both being ends; or None."""
     here, there = end_flags(reader), end_flags(other)
@@ -18,9 +30,7 @@ def first_with(reader, other, begin, wanted):
     def step(pair, sign):
         return goal_of(reader, pair[0], sign), goal_of(other, pair[1], sign)
 
-    def is_wanted(pair):
-        return (pair[0] is not None and here[pair[0]], pair[1] is not None and there[pair[1]]) in wanted
-    return first_row_to(reader.signs, begin, step, is_wanted)
+    return first_row_to(reader.signs, begin, step, lambda pair: flags_at_pair(here, there, pair) in wanted)
 
 
 def same_rows(reader, other):
@@ -61,14 +71,18 @@ def full_least(reader):
 
 def first_rows(reader):
     """The first rows of the stands of the least reader."""
-    made = least(reader)
+    return tuple(first_fronts(least(reader).arrows))
+
+
+def first_fronts(arrows):
+    """The first rows that lead to the stands; these are numbered by them, but for the last one."""
     rows = {0: ""}
-    for stand in range(len(made)):
-        for sign in range(made.signs):
-            goal = made.arrows[stand][sign]
+    for stand in range(len(arrows)):
+        for sign in range(len(arrows[stand])):
+            goal = arrows[stand][sign]
             if goal is not None and goal not in rows:
                 rows[goal] = rows[stand] + ALPHABET[sign]
-    return tuple([rows[stand] for stand in range(len(made))])
+    return [rows[stand] for stand in range(len(arrows))]
 
 
 def parting(reader, one, other):

@@ -2,10 +2,11 @@
 
 from rowreaders.checks import ALPHABET, check_row, is_lot
 from rowreaders.errors import InvalidSigns
-from rowreaders.likeness import goal_of, least
+from rowreaders.likeness import flags_at_pair, goals_of_pair, least
 from rowreaders.minimal import other_parts, stands_met
 from rowreaders.guessing import least_of_net
 from rowreaders.readers import check_pair, check_reader, end_flags, led_from, least_of, no_rows, useful
+from rowreaders.seeking import explored
 
 
 def both(reader, other):
@@ -37,22 +38,8 @@ def paired(reader, other, wanted):
     """The reader of the rows for which being a yes row of the one, and of the other one, is wanted so."""
     reader, other = least(reader), least(other)
     here, there = end_flags(reader), end_flags(other)
-    pairs = [(0, 0)]
-    number = {(0, 0): 0}
-    arrows = []
-    ends = []
-    while len(arrows) < len(pairs):
-        one, two = pairs[len(arrows)]
-        if (one is not None and here[one], two is not None and there[two]) in wanted:
-            ends.append(len(arrows))
-        goals = []
-        for sign in range(reader.signs):
-            goal = (goal_of(reader, one, sign), goal_of(other, two, sign))
-            if goal not in number:
-                number[goal] = len(pairs)
-                pairs.append(goal)
-            goals.append(number[goal])
-        arrows.append(goals)
+    pairs, arrows = explored((0, 0), lambda pair: goals_of_pair(reader, other, pair))
+    ends = [at for at in range(len(pairs)) if flags_at_pair(here, there, pairs[at]) in wanted]
     return least_of(reader.signs, arrows, ends)
 
 

@@ -87,6 +87,14 @@ def stands_met(links, begin):
     return [stand for stand in range(len(met)) if met[stand]]
 
 
+def flags_of(size, stands):
+    """For each of so many stands whether it is one of these."""
+    flags = [False] * size
+    for stand in stands:
+        flags[stand] = True
+    return flags
+
+
 def links_of(arrows):
     """For each stand the stands to which its arrows lead."""
     return [[goal for goal in goals if goal is not None] for goals in arrows]
@@ -207,9 +215,7 @@ def other_parts(signs, arrows, ends):
     nowhere = len(arrows)
     made = [[nowhere if goal is None else goal for goal in goals] for goals in arrows]
     made.append([nowhere] * signs)
-    is_end = [False] * len(made)
-    for end in ends:
-        is_end[end] = True
+    is_end = flags_of(len(made), ends)
     return made, [stand for stand in range(len(made)) if not is_end[stand]]
 
 

@@ -4,7 +4,7 @@ from rowreaders.checks import ALPHABET, check_row, check_signs, is_arrows, is_be
 from rowreaders.errors import InvalidArrows, InvalidEnds, InvalidStand, InvalidTold
 from rowreaders.errors import NotAReader, TooMany, UnlikeSigns
 from rowreaders.limits import MOST_STANDS
-from rowreaders.minimal import least_parts, nothing, useful_stands
+from rowreaders.minimal import flags_of, least_parts, nothing, useful_stands
 
 MOST_TOLD = 40
 MOST_TOLD_SIGNS = 12
@@ -77,10 +77,7 @@ def least_of(signs, arrows, ends):
 
 def end_flags(reader):
     """For each stand whether it is an end."""
-    flags = [False] * len(reader)
-    for stand in reader.ends:
-        flags[stand] = True
-    return flags
+    return flags_of(len(reader), reader.ends)
 
 
 def led_from(reader, stand, row):

@@ -1,4 +1,4 @@
-"""Looking for first rows."""
+"""Looking for places that rows lead to, and for first rows."""
 
 from rowreaders.checks import ALPHABET
 
@@ -32,3 +32,22 @@ def row_back(origin, place):
         place, sign = origin[place]
         signs.append(ALPHABET[sign])
     return "".join(signs[::-1])
+
+
+def explored(begin, steps):
+    """All places that can be come to, and for each one the tuple of the numbers of those to which signs lead.
+
+    steps tells for a place what the signs lead to, None for nowhere.
+    """
+    places = [begin]
+    number = {begin: 0}
+    arrows = []
+    while len(arrows) < len(places):
+        goals = []
+        for goal in steps(places[len(arrows)]):
+            if goal is not None and goal not in number:
+                number[goal] = len(places)
+                places.append(goal)
+            goals.append(None if goal is None else number[goal])
+        arrows.append(tuple(goals))
+    return places, arrows

@@ -20,7 +20,7 @@ class Strides:
         self.first = links.first
         counts = empty_counts(links.empty)
         sums = [[sums_of(counts[stand], signed) for stand in range(self.many)] for signed in links.signed]
-        self.lead = [[from_on(row, 1) for row in table] for table in sums]
+        self.leading = [[from_on(row, 1) for row in table] for table in sums]
         self.twice = [[from_on(row, 2) for row in table] for table in sums]
         ends = [sum([counts[stand][goal] for goal in stands_of(links.last)]) for stand in range(self.many)]
         self.last = from_on(ends, 1)
@@ -66,7 +66,7 @@ def first_row_twice(guesser):
     strides = Strides(Links(guesser, all_stands(guesser)))
     many = strides.many
     alike = [[alike_moved(strides, sign, stand) for stand in range(many)] for sign in range(guesser.signs)]
-    apart = [[apart_moved(strides.lead[sign], many, one, two) for one in range(many) for two in range(many)]
+    apart = [[apart_moved(strides.leading[sign], many, one, two) for one in range(many) for two in range(many)]
              for sign in range(guesser.signs)]
     links = [alike[sign] + apart[sign] for sign in range(guesser.signs)]
     begins = stands_of(strides.first)
@@ -83,7 +83,7 @@ def pair(many, one, two):
 
 def alike_moved(strides, sign, stand):
     """Where two ways that are the same up to a stand are led."""
-    goals = stands_of(strides.lead[sign][stand])
+    goals = stands_of(strides.leading[sign][stand])
     twice = stands_of(strides.twice[sign][stand])
     pairs = [pair(strides.many, one, two) for one in goals for two in goals if one != two]
     return crowd_of(goals + pairs + [pair(strides.many, one, one) for one in twice])
@@ -119,13 +119,13 @@ def rows_by_round(signs, links, stand):
 
 def row_of_strides(signs, strides, begins, goals):
     """The first row whose strides lead from one of the begins to one of the goals, or None."""
-    return first_row(signs, lambda crowd, sign: union(strides.lead[sign], crowd), begins, goals)
+    return first_row(signs, lambda crowd, sign: union(strides.leading[sign], crowd), begins, goals)
 
 
 def any_strides(strides):
     """For each stand the crowd to which strides of any sign lead."""
     links = [0] * strides.many
-    for lead in strides.lead:
+    for lead in strides.leading:
         links = [links[stand] | lead[stand] for stand in range(strides.many)]
     return links
 
@@ -189,7 +189,7 @@ class Triples:
         """The crowd of triples to which a sign leads a triple."""
         if (triple, sign) not in self.known:
             many = self.strides.many
-            lead = self.strides.lead[sign]
+            lead = self.strides.leading[sign]
             rest = lead[triple % many]
             goals = 0
             for one in stands_of(lead[triple // many // many]):

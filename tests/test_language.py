@@ -15,7 +15,9 @@ LIBRARY = {"heapq": {"heappush", "heappop", "heapify", "heapreplace", "heappushp
            "math": {"gcd", "lcm", "isqrt", "comb", "perm", "factorial"},
            "itertools": {"product", "combinations", "permutations"}}
 NEVER = {"register", "mro", "elements", "open", "input", "law", "version_info", "with_traceback", "add_note"}
-STATEMENTS = (ast.Global, ast.AsyncFunctionDef, ast.AsyncFor, ast.AsyncWith, ast.Try, ast.Import)
+STATEMENTS = (ast.Global, ast.AsyncFunctionDef, ast.AsyncFor, ast.AsyncWith, ast.Import)
+OPERATORS = set("""__init__ __eq__ __repr__ __str__ __len__ __enter__ __exit__ __bool__ __contains__ __iter__
+    __getitem__ __setitem__""".split())
 TAKES_LISTS = {"any", "all", "min", "max", "sum", "sorted"}
 
 
@@ -122,6 +124,70 @@ class LanguageTest(unittest.TestCase):
                 if isinstance(node, ast.Call) and isinstance(node.func, ast.Name) and node.func.id in TAKES_LISTS:
                     self.assertFalse(any(isinstance(part, ast.GeneratorExp) for part in node.args),
                                      (path, node.lineno))
+
+    def test_errors_that_are_caught(self):
+        own = {node.name for node in ast.parse((PACKAGE / "errors.py").read_text()).body if isinstance(node, ast.ClassDef)}
+        for path, _, tree in trees():
+            for node in ast.walk(tree):
+                if not isinstance(node, ast.Try):
+                    continue
+                for handler in node.handlers:
+                    kinds = handler.type.elts if isinstance(handler.type, ast.Tuple) else [handler.type]
+                    self.assertLessEqual({kind.id for kind in kinds}, own, (path, node.lineno))
+                for part in node.finalbody:
+                    self.assertIsInstance(part, ast.Assign, (path, part.lineno))
+                    for side in (*part.targets, part.value):
+                        self.assertIsInstance(side, (ast.Name, ast.Attribute), (path, part.lineno))
+
+    def test_statements_behind_trials(self):
+        for path, _, tree in trees():
+            for function in functions(tree):
+                if function.name == "__exit__":
+                    for part in function.body:
+                        self.assertIsInstance(part, ast.Assign, (path, part.lineno))
+                        for side in (*part.targets, part.value):
+                            self.assertIsInstance(side, (ast.Name, ast.Attribute), (path, part.lineno))
+
+    def test_operators(self):
+        stored = set()
+        for path, _, tree in trees():
+            for kind in [node for node in tree.body if isinstance(node, ast.ClassDef)]:
+                names = {function.name for function in functions(kind)}
+                self.assertLessEqual({name for name in names if name.startswith("__")}, OPERATORS, (path, kind.name))
+                if "__getitem__" in names:
+                    self.assertIn("__iter__", names, (path, kind.name))
+                stored |= names
+            for node in ast.walk(tree):
+                if isinstance(node, ast.Attribute) and isinstance(node.ctx, ast.Store):
+                    stored.add(node.attr)
+        self.assertNotIn("keys", stored)
+        for path, text, tree in trees():
+            for word in ("(type)", "Meta", "metaclass="):
+                self.assertNotIn(word, text, path)
+            for node in ast.walk(tree):
+                if isinstance(node, ast.Call) and isinstance(node.func, ast.Name):
+                    self.assertNotIn(node.func.id, ("product", "combinations", "permutations", "reversed"), path)
+                if isinstance(node, ast.Call) and isinstance(node.func, ast.Attribute):
+                    self.assertNotEqual(node.func.attr, "sort", path)
+
+    def test_sets_are_kept_where_they_are(self):
+        for path, _, tree in trees():
+            for function in functions(tree):
+                nodes = list(ast.walk(function))
+                kept = [node.targets[0].id for node in nodes if isinstance(node, ast.Assign)
+                        and isinstance(node.targets[0], ast.Name) and self.is_set(node.value)]
+                self.assertEqual(len(kept), len(set(kept)), (path, function.name))
+                for node in nodes:
+                    inner = ast.walk(node) if isinstance(node, (ast.Lambda, ast.ListComp, ast.DictComp)) else []
+                    for part in inner:
+                        if isinstance(part, ast.Name):
+                            self.assertNotIn(part.id, kept, (path, function.name))
+                    if isinstance(node, ast.Return) and isinstance(node.value, ast.Name):
+                        self.assertNotIn(node.value.id, kept, (path, function.name))
+
+    def is_set(self, node):
+        return isinstance(node, (ast.Set, ast.SetComp)) or (
+            isinstance(node, ast.Call) and isinstance(node.func, ast.Name) and node.func.id == "set")
 
     def test_decorators(self):
         for path, _, tree in trees():
