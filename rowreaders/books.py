@@ -13,10 +13,15 @@ from rowreaders.twins import two_alike_rows
 
 def check_book(book, signs, written):
     """Let only a book pass with a word of so many signs, the latter ones, for each of the former ones."""
-    if not isinstance(book, tuple) or len(book) != signs:
+    if not is_book(book, signs, written):
         raise InvalidBook(book)
-    if not all([is_row(word, written, MOST_WORD) for word in book]):
-        raise InvalidBook(book)
+
+
+def is_book(value, signs, written):
+    """Whether a value has a word of so many signs, the latter ones, for each of the former ones."""
+    if not isinstance(value, tuple) or len(value) != signs:
+        return False
+    return all([is_row(word, written, MOST_WORD) for word in value])
 
 
 def by_book(reader, book):

@@ -154,9 +154,13 @@ def turns_of(reader, first, second, plan):
     check_duel(reader, first, second)
     if not is_plan(plan, len(reader), first):
         raise InvalidPlan(plan)
-    every = goals_by(reader, first)
-    mine = [every[at] if plan[at] is None else [every[at][first.index(plan[at])]] for at in range(len(reader))]
-    return signs_left(reader, mine, goals_by(reader, second), has_all)[0][0]
+    return signs_left(reader, goals_by_plan(reader, first, plan), goals_by(reader, second), has_all)[0][0]
+
+
+def goals_by_plan(reader, lot, plan):
+    """For each stand what the signs of a lot lead to that a plan lets be written there."""
+    every = goals_by(reader, lot)
+    return [every[at] if plan[at] is None else [every[at][lot.index(plan[at])]] for at in range(len(reader))]
 
 
 def is_plan(value, size, lot):
