@@ -2,11 +2,12 @@
 
 import functools
 import random
+import unittest.mock
 
 from helpers import AB, EVEN, LETTERS, NOT_INTEGERS, NOT_READERS, NOT_ROWS, STRANGE, Case, cycle, is_yes
 from helpers import met_from, rows_up_to, some_reader
 
-from rowreaders import endless
+from rowreaders import endless, repeating
 from rowreaders.endless import Watcher, a_loop, both_loops, closed, either_loops, fronts_of, is_closed, loops_behind
 from rowreaders.endless import other_loops, same_loops, unlike_loop, watcher_of, watches
 from rowreaders.errors import InvalidArrows, InvalidMarks, InvalidRow, InvalidSigns, NotAReader, NotAWatcher
@@ -392,6 +393,39 @@ class LoopsBehindTest(Case):
         for size in (30, 100, 200):
             reader = some_reader(chance, 2, size, 0, 0.1)
             self.fails(TooMany, lambda: loops_behind(Watcher(2, reader.arrows, reader.ends), ""), limit=200)
+
+    def test_what_is_told_apart_on_the_way(self):
+        """However early it is looked whether too many rows are unlike, the same comes out."""
+        watchers = [watcher for watcher in SMALL if len(watcher) < 4] + [MUCH_B, SOME_B, line_back(7), ring(11, 2, (3,))]
+        found = [self.told(watcher) for watcher in watchers]
+        with unittest.mock.patch.object(repeating, "FIRST_LOOK", 2):
+            self.assertEqual([self.told(watcher) for watcher in watchers], found)
+            # There are just as many stands as there may be, and rows besides that will never do.
+            self.assertEqual(len(loops_behind(line_back(199), "")), 200)
+            self.fails(TooMany, lambda: loops_behind(line_back(200), ""), limit=200)
+
+    def told(self, watcher):
+        try:
+            return loops_behind(watcher, "")
+        except TooMany:
+            return None
+
+    def test_much_is_done_by_rows_but_little_matters(self):
+        # The row says no only if it keeps to stand 0 from there, whatever it does to the other ones.
+        arrows = ((0, 0, 2, 1, 0, 0, 1, 0), (1, 2, 0, 2, 0, 0, 0, 3), (2, 0, 2, 4, 1, 3, 4, 4), (1, 4, 5, 2, 4, 5, 2, 1),
+                  (6, 5, 2, 4, 4, 2, 2, 2), (4, 4, 3, 3, 7, 3, 4, 3), (7, 8, 5, 8, 5, 8, 8, 8), (7, 5, 5, 9, 8, 5, 9, 9),
+                  (8, 6, 7, 7, 6, 9, 9, 7), (9, 8, 9, 8, 7, 9, 8, 9))
+        made = loops_behind(Watcher(8, arrows, tuple(range(1, 10))), "")
+        self.assertEqual(made, Reader(8, ((0, 0, 1, 1, 0, 0, 1, 0), (1,) * 8), (1,)))
+        # Here it is another stand: rows that keep to it lead there at last, or they do not.
+        for arrows in (((1, 2), (2, 0), (2, 2), (0, 3)), ((1, 3), (2, 1), (2, 3), (1, 0)), ((1, 1), (3, 2), (2, 0), (0, 2))):
+            self.assert_loops(Watcher(2, arrows, (0, 1, 3)), "", 7)
+
+    def test_too_many_that_are_hard_to_tell(self):
+        chance = random.Random(57)
+        for signs, size, nowhere, end in ((2, 200, 0.2, 0.9), (2, 200, 0.2, 0.5), (8, 120, 0.5, 0.5), (8, 60, 0.5, 0.05)):
+            reader = some_reader(chance, signs, size, nowhere, end)
+            self.fails(TooMany, lambda: loops_behind(Watcher(signs, reader.arrows, reader.ends), ""), limit=200)
 
     def test_with_books_of_readers(self):
         # Loops of both are loops of each, and so for either.
