@@ -111,7 +111,7 @@ class Table:
         stop = len(row)
         begin = stop - 1
         while begin > 0 and self.answer(rows[places[begin]] + row[begin:]) == said:
-            far += far
+            far = 2 * far
             stop = begin
             begin = max(0, stop - far)
         while stop - begin > 1:

@@ -88,7 +88,7 @@ def group_row(reader):
         # Repeated as often as there are deeds, or more often, a row is surely in its round.
         while repeated < len(deeds):
             often = joined(often, often)
-            repeated += repeated
+            repeated = repeated + repeated
         if joined(often, deeds[at]) != often:
             return rows[at]
     return None

@@ -52,7 +52,7 @@ def all_ends(size):
     """All ascending tuples of stands, ascending."""
     lots = [()]
     for stand in range(size):
-        lots += [lot + (stand,) for lot in lots]
+        lots = lots + [lot + (stand,) for lot in lots]
     return sorted(lots)
 
 

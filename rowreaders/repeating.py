@@ -63,6 +63,6 @@ def repeating_parts(signs, arrows, marks):
     while len(repeats.leads) < len(repeats.found):
         if len(repeats.found) >= look:
             repeats.check_unlike()
-            look += look
+            look = 2 * look
         repeats.go_on()
     return repeats.leads, repeats.yes_fates()

@@ -155,7 +155,7 @@ def is_name(value):
 
 
 def is_deed(value):
-    """Whether a value is a tuple of the word of a change and as many elements as it needs."""
+    """Whether a value is a tuple of the word of a change and as much as it needs behind it."""
     if not isinstance(value, tuple) or not value or not isinstance(value[0], str):
         return False
     return len(value) == DEED_SIZES.get(value[0])

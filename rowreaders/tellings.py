@@ -23,7 +23,7 @@ class Tellings:
             return (False,) * len(self.rests)
         known = self.answers.get(fate, ())
         if len(known) < len(self.rests):
-            known += tuple([self.fates.is_yes(fate, rest) for rest in self.rests[len(known):]])
+            known = known + tuple([self.fates.is_yes(fate, rest) for rest in self.rests[len(known):]])
             self.answers[fate] = known
         return known
 

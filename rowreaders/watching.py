@@ -52,7 +52,9 @@ def round_by(signs, arrows, is_wanted, is_let):
 
 def row_to(signs, arrows, stand):
     """The first row from stand 0 to a stand."""
-    return first_row_to(signs, 0, lambda here, sign: arrows[here][sign], lambda here: here == stand)
+    def step(here, sign):
+        return arrows[here][sign]
+    return first_row_to(signs, 0, step, lambda here: here == stand)
 
 
 def row_round(signs, arrows, begin, is_let):
